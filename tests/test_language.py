@@ -1,0 +1,161 @@
+"""The rules of LANGUAGE.md that can be seen in the package's files; the others are the writer's care."""
+
+import ast
+import builtins
+import pathlib
+import re
+import unittest
+
+PACKAGE = pathlib.Path(__file__).resolve().parent.parent / "unsaybook"
+
+NODES = (
+    ast.Module, ast.ImportFrom, ast.alias, ast.FunctionDef, ast.ClassDef, ast.arguments, ast.arg, ast.Lambda,
+    ast.Assign, ast.AugAssign, ast.If, ast.While, ast.For, ast.Return, ast.Break, ast.Continue, ast.Pass, ast.Raise,
+    ast.Try, ast.ExceptHandler, ast.Expr, ast.Constant, ast.List, ast.Tuple, ast.Dict, ast.BinOp, ast.UnaryOp,
+    ast.BoolOp, ast.Compare, ast.IfExp, ast.Call, ast.keyword, ast.Attribute, ast.Subscript, ast.Slice, ast.Name,
+    ast.ListComp, ast.comprehension, ast.JoinedStr, ast.FormattedValue,
+    ast.expr_context, ast.boolop, ast.operator, ast.unaryop, ast.cmpop,
+)
+OWN_NAMES = set(
+    "len range enumerate zip min max sum abs sorted reversed int str bool list tuple dict set frozenset isinstance ord "
+    "repr any all divmod Exception ValueError TypeError KeyError IndexError LookupError ZeroDivisionError "
+    "ArithmeticError OverflowError RuntimeError NotImplementedError AttributeError StopIteration".split()
+)
+METHODS = set(
+    "append clear copy count endswith extend find get index insert isalnum isalpha isdigit islower isspace isupper "
+    "items join keys ljust lower lstrip partition pop remove replace reverse rfind rjust rpartition rsplit rstrip "
+    "setdefault split splitlines startswith strip update upper values zfill bit_length".split()
+)
+UNDERSCORED = {"__init__", "__eq__", "__repr__", "__str__", "__len__"}
+WORDS = re.compile(
+    r"\b(type|typing|typing_extensions|enum|Enum|IntEnum|StrEnum|Flag|IntFlag|Generic|Protocol|ABC|ABCMeta|namedtuple"
+    r"|NamedTuple|TypedDict|TYPE_CHECKING|abstractmethod)\b|dataclass|overload|contextmanager"
+)
+UNUSED = set("register mro elements open input version_info with_traceback add_note".split())
+
+
+def sources():
+    return {path: path.read_text("ascii") for path in sorted(PACKAGE.rglob("*.py"))}
+
+
+def trees():
+    return {path: ast.parse(source) for path, source in sources().items()}
+
+
+def nodes():
+    return [(path, node) for path, tree in trees().items() for node in ast.walk(tree)]
+
+
+def bound_names(tree):
+    for node in ast.walk(tree):
+        if isinstance(node, ast.Name) and isinstance(node.ctx, ast.Store):
+            yield node.id
+        elif isinstance(node, (ast.FunctionDef, ast.ClassDef)):
+            yield node.name
+        elif isinstance(node, ast.arg):
+            yield node.arg
+        elif isinstance(node, ast.Attribute):
+            yield node.attr
+
+
+class Files(unittest.TestCase):
+    def test_names_of_files(self):
+        self.assertTrue((PACKAGE / "__init__.py").is_file())
+        for path in PACKAGE.rglob("*"):
+            if "__pycache__" not in path.parts:
+                self.assertRegex(path.name, r"^([a-z][a-z0-9_]*|__init__)\.py$")
+
+    def test_sizes_and_signs(self):
+        for path, source in sources().items():
+            lines = source.split("\n")
+            self.assertLessEqual(len(lines), 400, path)
+            for number, line in enumerate(lines, start=1):
+                self.assertRegex(line, r"^[ -~]{0,120}$", (path, number))
+
+    def test_words_that_stand_nowhere(self):
+        for path, source in sources().items():
+            self.assertIsNone(WORDS.search(source), path)
+
+    def test_imports(self):
+        for path, node in nodes():
+            if isinstance(node, ast.ImportFrom):
+                self.assertEqual(node.level, 0, path)
+                self.assertTrue(node.module.startswith("unsaybook."), (path, node.module))
+                self.assertNotIn("*", [alias.name for alias in node.names], path)
+
+    def test_the_top_of_a_module(self):
+        for path, tree in trees().items():
+            for node in tree.body[1:]:
+                self.assertIsInstance(node, (ast.ImportFrom, ast.FunctionDef, ast.ClassDef, ast.Assign), path)
+
+
+class Forms(unittest.TestCase):
+    def test_only_the_told_forms(self):
+        for path, node in nodes():
+            self.assertIsInstance(node, NODES, (path, getattr(node, "lineno", 0)))
+            self.assertNotIsInstance(node, (ast.Div, ast.MatMult), path)
+
+    def test_functions(self):
+        for path, node in nodes():
+            if isinstance(node, ast.FunctionDef):
+                told = node.args
+                self.assertLessEqual(node.end_lineno - node.lineno + 1, 40, (path, node.name))
+                self.assertEqual(node.decorator_list, [], (path, node.name))
+                self.assertFalse(told.vararg or told.kwarg or told.kwonlyargs or told.posonlyargs, (path, node.name))
+
+    def test_classes(self):
+        for path, node in nodes():
+            if isinstance(node, ast.ClassDef):
+                self.assertLessEqual(len(node.bases), 1, (path, node.name))
+                self.assertEqual((node.decorator_list, node.keywords), ([], []), (path, node.name))
+                for part in node.body:
+                    self.assertIsInstance(part, (ast.FunctionDef, ast.Pass), (path, node.name))
+
+    def test_statements(self):
+        for path, node in nodes():
+            if isinstance(node, ast.Assign):
+                self.assertEqual(len(node.targets), 1, (path, node.lineno))
+            if isinstance(node, (ast.For, ast.While)):
+                self.assertEqual(node.orelse, [], (path, node.lineno))
+            if isinstance(node, ast.Try):
+                self.assertEqual(node.finalbody, [], (path, node.lineno))
+            if isinstance(node, ast.comprehension):
+                self.assertLessEqual(len(node.ifs), 1, path)
+            if isinstance(node, ast.ListComp):
+                self.assertEqual(len(node.generators), 1, (path, node.lineno))
+
+    def test_is_stands_beside_none_and_truths(self):
+        for path, node in nodes():
+            if isinstance(node, ast.Compare) and any([isinstance(op, (ast.Is, ast.IsNot)) for op in node.ops]):
+                plain = [side.value for side in node.comparators if isinstance(side, ast.Constant)]
+                self.assertTrue(plain and plain[0] in (None, True, False), (path, node.lineno))
+
+
+class Names(unittest.TestCase):
+    def test_names_that_are_bound(self):
+        for path, tree in trees().items():
+            for name in bound_names(tree):
+                self.assertTrue(name in UNDERSCORED or not name.startswith("_"), (path, name))
+                self.assertNotIn(name, UNUSED, path)
+
+    def test_no_name_of_pythons_own_is_given_another_meaning(self):
+        for path, node in nodes():
+            name = node.arg if isinstance(node, ast.arg) else None
+            if isinstance(node, ast.Name) and isinstance(node.ctx, ast.Store):
+                name = node.id
+            self.assertFalse(name is not None and hasattr(builtins, name), (path, name))
+
+    def test_only_the_told_names_of_pythons_own(self):
+        for path, node in nodes():
+            if isinstance(node, ast.Name) and hasattr(builtins, node.id):
+                self.assertIn(node.id, OWN_NAMES, (path, node.lineno))
+
+    def test_only_the_told_methods(self):
+        own = {node.name for _, node in nodes() if isinstance(node, ast.FunctionDef)}
+        for path, node in nodes():
+            if isinstance(node, ast.Call) and isinstance(node.func, ast.Attribute):
+                self.assertIn(node.func.attr, METHODS | own, (path, node.lineno))
+
+
+if __name__ == "__main__":
+    unittest.main()

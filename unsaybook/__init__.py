@@ -1,0 +1,1 @@
+"""Unsaybook: findings, the answers given from them, and which of these are unsaid."""
