@@ -31,6 +31,12 @@ WORDS = re.compile(
     r"\b(type|typing|typing_extensions|enum|Enum|IntEnum|StrEnum|Flag|IntFlag|Generic|Protocol|ABC|ABCMeta|namedtuple"
     r"|NamedTuple|TypedDict|TYPE_CHECKING|abstractmethod)\b|dataclass|overload|contextmanager"
 )
+# What is walked where it stands, and what may stand around it there.
+WALKED = set("zip enumerate reversed range items keys values".split())
+AROUND = set("list tuple dict sorted sum any all enumerate zip min max".split())
+NO_VALUES = set(
+    "items keys values pop update append clear extend insert remove reverse setdefault sort args encode format".split()
+)
 UNUSED = set("register mro elements open input version_info with_traceback add_note".split())
 
 
@@ -58,6 +64,20 @@ def bound_names(tree):
             yield node.attr
 
 
+def called(node):
+    """The name or the method that is called, None where the node is no call."""
+    if not isinstance(node, ast.Call):
+        return None
+    return node.func.id if isinstance(node.func, ast.Name) else getattr(node.func, "attr", None)
+
+
+def defined_in(module):
+    path = PACKAGE / (module.removeprefix("unsaybook.") + ".py")
+    body = ast.parse(path.read_text("ascii")).body
+    defined = {node.name for node in body if isinstance(node, (ast.FunctionDef, ast.ClassDef))}
+    return defined | {node.targets[0].id for node in body if isinstance(node, ast.Assign)}
+
+
 class Files(unittest.TestCase):
     def test_names_of_files(self):
         self.assertTrue((PACKAGE / "__init__.py").is_file())
@@ -82,6 +102,22 @@ class Files(unittest.TestCase):
                 self.assertEqual(node.level, 0, path)
                 self.assertTrue(node.module.startswith("unsaybook."), (path, node.module))
                 self.assertNotIn("*", [alias.name for alias in node.names], path)
+
+    def test_names_are_drawn_from_where_they_are_defined(self):
+        for path, node in nodes():
+            if isinstance(node, ast.ImportFrom):
+                self.assertLessEqual({alias.name for alias in node.names}, defined_in(node.module), path)
+
+    def test_no_two_files_draw_from_one_another(self):
+        drawn = {
+            path.stem: [node.module.split(".")[1] for node in ast.walk(tree) if isinstance(node, ast.ImportFrom)]
+            for path, tree in trees().items()
+        }
+        while drawn:
+            free = [name for name in drawn if not set(drawn[name]) & set(drawn)]
+            self.assertNotEqual(free, [], drawn)
+            for name in free:
+                drawn.pop(name)
 
     def test_the_top_of_a_module(self):
         for path, tree in trees().items():
@@ -130,8 +166,27 @@ class Forms(unittest.TestCase):
                 plain = [side.value for side in node.comparators if isinstance(side, ast.Constant)]
                 self.assertTrue(plain and plain[0] in (None, True, False), (path, node.lineno))
 
+    def test_what_is_walked_on_the_spot(self):
+        for path, node in nodes():
+            good = [node.iter] if isinstance(node, (ast.For, ast.comprehension)) else []
+            if called(node) in AROUND:
+                good = node.args[:1]
+            for part in ast.iter_child_nodes(node):
+                if called(part) in WALKED:
+                    self.assertIn(part, good, (path, part.lineno))
+
 
 class Names(unittest.TestCase):
+    def test_no_name_is_a_method_and_a_value(self):
+        methods, values = set(), set()
+        for _, node in nodes():
+            if isinstance(node, ast.ClassDef):
+                methods |= {part.name for part in node.body if isinstance(part, ast.FunctionDef)}
+            if isinstance(node, ast.Attribute) and isinstance(node.ctx, ast.Store):
+                values.add(node.attr)
+        self.assertEqual(methods & values, set())
+        self.assertEqual(values & NO_VALUES, set())
+
     def test_names_that_are_bound(self):
         for path, tree in trees().items():
             for name in bound_names(tree):

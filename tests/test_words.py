@@ -2,7 +2,7 @@
 
 import unittest
 
-from unsaybook.words import is_name, is_whole, number_of
+from unsaybook.words import is_day, is_name, is_whole, number_of
 
 FAR = 10 ** 99
 NO_NUMBERS = (True, False, None, "", "1", "0", "a", [], [1], (), (1,), {}, {1: 1})
@@ -35,6 +35,15 @@ class Wholes(unittest.TestCase):
         for thing in NO_NUMBERS:
             self.assertIs(is_whole(thing, -10, 10), False, thing)
             self.assertIs(is_whole(thing, 10, -10), False, thing)
+
+
+class Days(unittest.TestCase):
+    def test_from_nought_to_399(self):
+        self.assertEqual([day for day in range(-5, 410) if is_day(day)], list(range(400)))
+
+    def test_truths_and_other_things_are_none(self):
+        for thing in (*NO_NUMBERS, FAR, -FAR):
+            self.assertIs(is_day(thing), False, thing)
 
 
 class Names(unittest.TestCase):

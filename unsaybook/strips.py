@@ -46,13 +46,17 @@ def filled(strip, first, last):
 
 
 def laid(strip, first, last, mark):
-    rows = [(first, last, mark)]
-    for start, end, old in strip:
+    return joined(around(strip, first, last) + [(first, last, mark)])
+
+
+def around(rows, first, last):
+    kept = []
+    for start, end, mark in rows:
         if start < first:
-            rows.append((start, min(end, first - 1), old))
+            kept.append((start, min(end, first - 1), mark))
         if last < end:
-            rows.append((max(start, last + 1), end, old))
-    return joined(rows)
+            kept.append((max(start, last + 1), end, mark))
+    return kept
 
 
 def side_by_side(one, other, first, last):

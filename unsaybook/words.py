@@ -1,14 +1,19 @@
-"""Whole numbers, names, and numbers that are written plainly."""
+"""Whole numbers, days, names, and numbers that are written plainly."""
 
 LETTERS = "abcdefghijklmnopqrstuvwxyz"
 FIGURES = "0123456789"
 MOST_LETTERS = 8
 MOST_FIGURES = 12
+LAST_DAY = 399
 
 
 def is_whole(thing, low, high):
     # A truth is an int to Python, but no whole number here.
     return isinstance(thing, int) and not isinstance(thing, bool) and low <= thing <= high
+
+
+def is_day(thing):
+    return is_whole(thing, 0, LAST_DAY)
 
 
 def is_name(thing):
