@@ -1,10 +1,11 @@
-"""Books reckoned without the program, deed by deed and day by day: what the tests hold it against."""
+"""Books and questions reckoned without the program, day by day: what the tests hold it against."""
 
 import random
 
 from unsaybook.findings import Book
 
 DAYS = range(400)
+SOME_DAYS = (0, 1, 2, 5, 6, 7, 40, 200, 397, 398, 399)
 THINGS = (
     True, False, None, "", "a", "b", "0", "1", "find", " ", "A", "two words\n\t", [], [0], ["a"], [["a"]], (), (0,),
     ("a",), ("find", 0), {}, {"a": 0}, {0: [1]}, -1, 10 ** 99, -(10 ** 99),
@@ -30,6 +31,7 @@ class Log:
         self.deeds = []
         self.findings = []
         self.known_speakers = {}
+        self.known_values = {}
 
     def find(self, key, first, last, value):
         self.deeds.append(("find", len(self.findings)))
@@ -45,19 +47,33 @@ class Log:
     def speakers(self, key, turn):
         """Who speaks on each of the 400 days."""
         if (key, turn) not in self.known_speakers:
-            self.known_speakers[key, turn] = [self.speaker(key, day, turn) for day in DAYS]
+            speakers = [None for _ in DAYS]
+            for number, (about, first, last, _, entered, withdrawn) in enumerate(self.findings):
+                if about == key and entered <= turn and (withdrawn is None or turn < withdrawn):
+                    for day in range(first, last + 1):
+                        speakers[day] = number
+            self.known_speakers[key, turn] = speakers
         return self.known_speakers[key, turn]
-
-    def speaker(self, key, day, turn):
-        speaking = None
-        for number, (about, first, last, _, entered, withdrawn) in enumerate(self.findings):
-            known = entered <= turn and (withdrawn is None or turn < withdrawn)
-            if known and about == key and first <= day <= last:
-                speaking = number
-        return speaking
 
     def values(self, key, turn):
         return [None if number is None else self.findings[number][3] for number in self.speakers(key, turn)]
+
+    def told(self, turn):
+        """All values that are told, by key and day."""
+        if turn not in self.known_values:
+            rows = [(key, day, value) for key in self.keys for day, value in enumerate(self.values(key, turn))]
+            self.known_values[turn] = {(key, day): value for key, day, value in rows if value is not None}
+        return self.known_values[turn]
+
+    def answered(self, text, turn):
+        """The answer to a question, and its grounds."""
+        meaning = Meaning(text, self.told(turn))
+        grounds = []
+        for key in sorted({key for key, _ in meaning.reads}):
+            speakers = self.speakers(key, turn)
+            days = [day for about, day in meaning.reads if about == key]
+            grounds += [(key, *row) for row in fewest({day: (speakers[day],) for day in days})]
+        return meaning.answer, grounds
 
     def table(self, key, turn):
         speakers = self.speakers(key, turn)
@@ -98,11 +114,126 @@ def drawn(keys, deeds, seed):
         if standing and draw.random() < 0.4:
             script.append(standing.pop(draw.randrange(len(standing))))
         else:
-            first, last = sorted([draw.choice((0, 1, 2, 5, 6, 7, 40, 200, 397, 398, 399)) for _ in "ab"])
+            first, last = sorted([draw.choice(SOME_DAYS) for _ in "ab"])
             script.append((draw.choice(keys), first, last, draw.choice((-(10 ** 9), -1, 0, 0, 1, 10 ** 9))))
             standing.append(count)
             count += 1
     return script
+
+
+class Meaning:
+    """A question's text gone through by point 40 and 42: its answer, what it reads, and what it names."""
+
+    def __init__(self, text, values):
+        self.values = values
+        self.words = text.split(" ")
+        self.answer, self.reads, self.named = self.question()
+        if self.words:
+            raise AssertionError(f"words are left in {text}")
+
+    def question(self):
+        word = self.words.pop(0)
+        if word in ("plus", "minus", "less", "same"):
+            return self.bracketed(word)
+        answer, reads, named = getattr(self, "of_" + word)()
+        return answer, set(reads), set(named)
+
+    def bracketed(self, word):
+        inner = []
+        for _ in range(2 if word in ("plus", "minus") else 4):
+            assert self.words.pop(0) == "("
+            inner.append(self.question())
+            assert self.words.pop(0) == ")"
+        a, b = inner[0][0], inner[1][0]
+        reads, named = inner[0][1] | inner[1][1], set().union(*[part[2] for part in inner])
+        if word in ("plus", "minus"):
+            lacks = a is None or b is None
+            return None if lacks else a + b if word == "plus" else a - b, reads, named
+        chosen = a == b if word == "same" else a is not None and b is not None and a < b
+        given = inner[2] if chosen else inner[3]
+        return given[0], reads | given[1], named
+
+    def whole(self):
+        return int(self.words.pop(0))
+
+    def stretch(self, *keys):
+        first, last = self.whole(), self.whole()
+        return [[(key, day) for day in range(first, last + 1)] for key in keys]
+
+    def of_number(self):
+        return self.whole(), [], []
+
+    def of_value(self):
+        place = (self.words.pop(0), self.whole())
+        return self.values.get(place), [place], [place]
+
+    def gathered(self):
+        places = sum(self.stretch(*self.words.pop(0).split(",")), [])
+        return [self.values[place] for place in places if place in self.values], places
+
+    def of_sum(self):
+        values, places = self.gathered()
+        return sum(values), places, places
+
+    def of_count(self):
+        values, places = self.gathered()
+        return len(values), places, places
+
+    def of_least(self):
+        values, places = self.gathered()
+        return sorted(values)[0] if values else None, places, places
+
+    def of_greatest(self):
+        values, places = self.gathered()
+        return sorted(values)[-1] if values else None, places, places
+
+    def of_since(self):
+        key, bound = self.words.pop(0), self.whole()
+        (places,) = self.stretch(key)
+        starts = [
+            start for start in range(len(places))
+            if all(place in self.values and self.values[place] >= bound for place in places[start:])
+        ]
+        if not starts:
+            return None, places[-1:], places
+        return places[starts[0]][1], places[max(starts[0] - 1, 0):], places
+
+    def of_part(self):
+        one, other = self.stretch(self.words.pop(0), self.words.pop(0))
+        unlike = [place for place, beside in zip(one, other) if self.values.get(place) != self.values.get(beside)]
+        return len(unlike), one + other, one + other
+
+    def of_change(self):
+        rank, key = self.whole(), self.words.pop(0)
+        (places,) = self.stretch(key)
+        days = [day for (_, day) in places[1:] if self.values.get((key, day)) != self.values.get((key, day - 1))]
+        if len(days) < rank:
+            return None, places, places
+        return days[rank - 1], [place for place in places if place[1] <= days[rank - 1]], places
+
+
+def drawn_text(draw, keys, depth):
+    """The text of a question of this depth, about some of these keys."""
+    if depth == 0:
+        return drawn_single(draw, keys)
+    word = draw.choice(("plus", "minus", "less", "same"))
+    inner = [drawn_text(draw, keys, draw.randrange(depth)) for _ in range(2 if word in ("plus", "minus") else 4)]
+    inner[draw.randrange(len(inner))] = drawn_text(draw, keys, depth - 1)
+    return " ".join([word, *[f"( {text} )" for text in inner]])
+
+
+def drawn_single(draw, keys):
+    key, other = draw.choice(keys), draw.choice(keys)
+    several = ",".join(draw.sample(keys, draw.randrange(1, min(3, len(keys)) + 1)))
+    first, last = sorted([draw.choice(SOME_DAYS), draw.choice(SOME_DAYS)])
+    return draw.choice((
+        f"number {draw.randrange(-1, 2)}",
+        f"value {key} {first}",
+        f"{draw.choice(('sum', 'count', 'least', 'greatest'))} {several} {first} {last}",
+        f"since {key} {draw.choice((-1, 0, 1))} {first} {last}",
+        f"part {key} {other} {first} {last}",
+        f"change {draw.choice((1, 1, 2, 3))} {key} {first} {last}",
+    ))
 
 
 EIGHT = ("value", "sum", "abcdefgh", "z", "y", "x", "keys", "a")

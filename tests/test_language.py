@@ -37,6 +37,7 @@ AROUND = set("list tuple dict sorted sum any all enumerate zip min max".split())
 NO_VALUES = set(
     "items keys values pop update append clear extend insert remove reverse setdefault sort args encode format".split()
 )
+CHANGES = set("append clear extend insert pop remove reverse setdefault update add discard".split())
 UNUSED = set("register mro elements open input version_info with_traceback add_note".split())
 
 
@@ -176,7 +177,83 @@ class Forms(unittest.TestCase):
                     self.assertIn(part, good, (path, part.lineno))
 
 
+    def test_no_annotations(self):
+        for path, node in nodes():
+            told = getattr(node, "annotation", None) or getattr(node, "returns", None)
+            self.assertIsNone(told, (path, getattr(node, "lineno", 0)))
+
+    def test_methods_are_called_where_they_stand(self):
+        own = {part.name for _, node in nodes() if isinstance(node, ast.ClassDef) for part in node.body
+               if isinstance(part, ast.FunctionDef)}
+        good = [node.func for _, node in nodes() if isinstance(node, ast.Call)]
+        good = {(part.lineno, part.col_offset, part.attr) for part in good if isinstance(part, ast.Attribute)}
+        for path, node in nodes():
+            if isinstance(node, ast.Attribute) and node.attr in own | METHODS:
+                self.assertIn((node.lineno, node.col_offset, node.attr), good, (path, node.lineno))
+
+    def test_what_a_loop_walks_is_not_changed_in_it(self):
+        for path, node in nodes():
+            if isinstance(node, ast.For):
+                walked = {ast.unparse(part) for part in ast.walk(node.iter) if isinstance(part, (ast.Name, ast.Attribute))}
+                for part in [inner for row in node.body for inner in ast.walk(row)]:
+                    if called(part) in CHANGES and isinstance(part.func, ast.Attribute):
+                        self.assertNotIn(ast.unparse(part.func.value), walked, (path, part.lineno))
+                    if isinstance(part, ast.Subscript) and isinstance(part.ctx, ast.Store):
+                        self.assertNotIn(ast.unparse(part.value), walked, (path, part.lineno))
+
+    def test_sets_are_not_kept(self):
+        for path, node in nodes():
+            for part in ast.iter_child_nodes(node):
+                if called(part) in ("set", "frozenset"):
+                    good = called(node) in ("sorted", "len") or isinstance(node, (ast.Compare, ast.BinOp))
+                    self.assertTrue(good, (path, part.lineno))
+
+    def test_makers_give_back_nothing(self):
+        for path, node in nodes():
+            if isinstance(node, ast.FunctionDef) and node.name == "__init__":
+                given = [part for part in ast.walk(node) if isinstance(part, ast.Return)]
+                self.assertEqual(given, [], (path, node.lineno))
+
+    def test_errors_that_are_taken(self):
+        own = defined_in("unsaybook.errors") | {"KeyError", "ZeroDivisionError", "StopIteration"}
+        for path, node in nodes():
+            if isinstance(node, ast.ExceptHandler):
+                self.assertIsNotNone(node.type, (path, node.lineno))
+                taken = [part.id for part in ast.walk(node.type) if isinstance(part, ast.Name)]
+                self.assertLessEqual(set(taken), own, (path, node.lineno))
+
+    def test_f_strings(self):
+        for path, node in nodes():
+            if isinstance(node, ast.FormattedValue):
+                self.assertIsInstance(node.value, ast.Name, (path, node.lineno))
+                self.assertIsNone(node.format_spec, (path, node.lineno))
+            if isinstance(node, ast.Constant) and isinstance(node.value, str):
+                self.assertNotIn("%", node.value, (path, node.lineno))
+
+    def test_powers_have_written_exponents(self):
+        for path, node in nodes():
+            if isinstance(node, ast.BinOp) and isinstance(node.op, ast.Pow):
+                self.assertIsInstance(node.right, ast.Constant, (path, node.lineno))
+
+
 class Names(unittest.TestCase):
+    def test_no_local_is_called_like_a_class_or_an_import(self):
+        for path, tree in trees().items():
+            taken = {alias.name for node in ast.walk(tree) if isinstance(node, ast.ImportFrom) for alias in node.names}
+            taken |= {node.name for node in tree.body if isinstance(node, ast.ClassDef)}
+            for node in ast.walk(tree):
+                if isinstance(node, ast.Name) and isinstance(node.ctx, ast.Store):
+                    self.assertNotIn(node.id, taken, (path, node.lineno))
+                if isinstance(node, ast.arg):
+                    self.assertNotIn(node.arg, taken, (path, node.lineno))
+
+    def test_the_top_binds_each_name_once(self):
+        for path, tree in trees().items():
+            bound = [node.name for node in tree.body if isinstance(node, (ast.FunctionDef, ast.ClassDef))]
+            bound += [node.targets[0].id for node in tree.body if isinstance(node, ast.Assign)]
+            bound += [alias.name for node in tree.body if isinstance(node, ast.ImportFrom) for alias in node.names]
+            self.assertEqual(sorted(bound), sorted(set(bound)), path)
+
     def test_no_name_is_a_method_and_a_value(self):
         methods, values = set(), set()
         for _, node in nodes():

@@ -4,6 +4,7 @@ import itertools
 import random
 import unittest
 
+from reckoning import Meaning
 from unsaybook.questions import Change, Choice, Gathering, Number, Part, Question, Reckoning, Since, Value
 
 MOST = 10 ** 9
@@ -40,97 +41,6 @@ def telling(values):
 def values_of(**rows):
     """The dict that tells of each key these values, from day 0 on."""
     return {(key, day): value for key, row in rows.items() for day, value in enumerate(row) if value is not None}
-
-
-class Meaning:
-    """A question's text gone through by point 40 and 42: its answer, what it reads, and what it names."""
-
-    def __init__(self, text, values):
-        self.values = values
-        self.words = text.split(" ")
-        self.answer, self.reads, self.named = self.question()
-        if self.words:
-            raise AssertionError(f"words are left in {text}")
-
-    def question(self):
-        word = self.words.pop(0)
-        if word in ("plus", "minus", "less", "same"):
-            return self.bracketed(word)
-        answer, reads, named = getattr(self, "of_" + word)()
-        return answer, set(reads), set(named)
-
-    def bracketed(self, word):
-        inner = []
-        for _ in range(2 if word in ("plus", "minus") else 4):
-            assert self.words.pop(0) == "("
-            inner.append(self.question())
-            assert self.words.pop(0) == ")"
-        a, b = inner[0][0], inner[1][0]
-        reads, named = inner[0][1] | inner[1][1], set().union(*[part[2] for part in inner])
-        if word in ("plus", "minus"):
-            lacks = a is None or b is None
-            return None if lacks else a + b if word == "plus" else a - b, reads, named
-        chosen = a == b if word == "same" else a is not None and b is not None and a < b
-        given = inner[2] if chosen else inner[3]
-        return given[0], reads | given[1], named
-
-    def whole(self):
-        return int(self.words.pop(0))
-
-    def stretch(self, *keys):
-        first, last = self.whole(), self.whole()
-        return [[(key, day) for day in range(first, last + 1)] for key in keys]
-
-    def of_number(self):
-        return self.whole(), [], []
-
-    def of_value(self):
-        place = (self.words.pop(0), self.whole())
-        return self.values.get(place), [place], [place]
-
-    def gathered(self):
-        places = sum(self.stretch(*self.words.pop(0).split(",")), [])
-        return [self.values[place] for place in places if place in self.values], places
-
-    def of_sum(self):
-        values, places = self.gathered()
-        return sum(values), places, places
-
-    def of_count(self):
-        values, places = self.gathered()
-        return len(values), places, places
-
-    def of_least(self):
-        values, places = self.gathered()
-        return sorted(values)[0] if values else None, places, places
-
-    def of_greatest(self):
-        values, places = self.gathered()
-        return sorted(values)[-1] if values else None, places, places
-
-    def of_since(self):
-        key, bound = self.words.pop(0), self.whole()
-        (places,) = self.stretch(key)
-        starts = [
-            start for start in range(len(places))
-            if all([place in self.values and self.values[place] >= bound for place in places[start:]])
-        ]
-        if not starts:
-            return None, places[-1:], places
-        return places[starts[0]][1], places[max(starts[0] - 1, 0):], places
-
-    def of_part(self):
-        one, other = self.stretch(self.words.pop(0), self.words.pop(0))
-        unlike = [place for place, beside in zip(one, other) if self.values.get(place) != self.values.get(beside)]
-        return len(unlike), one + other, one + other
-
-    def of_change(self):
-        rank, key = self.whole(), self.words.pop(0)
-        (places,) = self.stretch(key)
-        days = [day for (_, day) in places[1:] if self.values.get((key, day)) != self.values.get((key, day - 1))]
-        if len(days) < rank:
-            return None, places, places
-        return days[rank - 1], [place for place in places if place[1] <= days[rank - 1]], places
 
 
 class Held(unittest.TestCase):
