@@ -32,6 +32,7 @@ class Log:
         self.findings = []
         self.known_speakers = {}
         self.known_values = {}
+        self.known_answers = {}
 
     def find(self, key, first, last, value):
         self.deeds.append(("find", len(self.findings)))
@@ -67,13 +68,38 @@ class Log:
 
     def answered(self, text, turn):
         """The answer to a question, and its grounds."""
-        meaning = Meaning(text, self.told(turn))
-        grounds = []
-        for key in sorted({key for key, _ in meaning.reads}):
-            speakers = self.speakers(key, turn)
-            days = [day for about, day in meaning.reads if about == key]
-            grounds += [(key, *row) for row in fewest({day: (speakers[day],) for day in days})]
-        return meaning.answer, grounds
+        if (text, turn) not in self.known_answers:
+            meaning = Meaning(text, self.told(turn))
+            grounds = []
+            for key in sorted({key for key, _ in meaning.reads}):
+                speakers = self.speakers(key, turn)
+                days = [day for about, day in meaning.reads if about == key]
+                grounds += [(key, *row) for row in fewest({day: (speakers[day],) for day in days})]
+            self.known_answers[text, turn] = (meaning.answer, grounds)
+        answer, grounds = self.known_answers[text, turn]
+        return answer, list(grounds)
+
+    def changed(self, turn):
+        """The longest stretches (key, first, last) on which the deed of this turn changed who speaks."""
+        boxes = []
+        for key in self.keys:
+            pairs = zip(self.speakers(key, turn - 1), self.speakers(key, turn))
+            boxes += [(key, *row) for row in fewest({day: () for day, (one, other) in enumerate(pairs) if one != other})]
+        return boxes
+
+    def unsaid(self, given):
+        """Of a list of given answers (who, text, turn, answer): which are unsaid now, since when and by what."""
+        rows = []
+        for number, (_, text, turn, answer) in enumerate(given):
+            since = None
+            for known in range(turn, self.now() + 1):
+                if self.answered(text, known)[0] == answer:
+                    since = None
+                elif since is None:
+                    since = known
+            if since is not None:
+                rows.append((number, since, self.deeds[since - 1]))
+        return rows
 
     def table(self, key, turn):
         speakers = self.speakers(key, turn)

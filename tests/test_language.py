@@ -124,6 +124,8 @@ class Files(unittest.TestCase):
         for path, tree in trees().items():
             for node in tree.body[1:]:
                 self.assertIsInstance(node, (ast.ImportFrom, ast.FunctionDef, ast.ClassDef, ast.Assign), path)
+                if isinstance(node, ast.Assign):
+                    ast.literal_eval(node.value)
 
 
 class Forms(unittest.TestCase):
@@ -185,11 +187,11 @@ class Forms(unittest.TestCase):
     def test_methods_are_called_where_they_stand(self):
         own = {part.name for _, node in nodes() if isinstance(node, ast.ClassDef) for part in node.body
                if isinstance(part, ast.FunctionDef)}
-        good = [node.func for _, node in nodes() if isinstance(node, ast.Call)]
-        good = {(part.lineno, part.col_offset, part.attr) for part in good if isinstance(part, ast.Attribute)}
-        for path, node in nodes():
-            if isinstance(node, ast.Attribute) and node.attr in own | METHODS:
-                self.assertIn((node.lineno, node.col_offset, node.attr), good, (path, node.lineno))
+        for path, tree in trees().items():
+            good = [node.func for node in ast.walk(tree) if isinstance(node, ast.Call)]
+            for node in ast.walk(tree):
+                if isinstance(node, ast.Attribute) and node.attr in own | METHODS:
+                    self.assertIn(node, good, (path, node.lineno))
 
     def test_what_a_loop_walks_is_not_changed_in_it(self):
         for path, node in nodes():

@@ -7,17 +7,30 @@ from unsaybook.turns import value_of
 from unsaybook.words import LAST_DAY
 
 
-# Who speaks on all days of some keys, as known at a turn, and which of these days were asked for.
+# What is told on all days of some keys, as known at a turn, and which of these days were asked for.
 class Hearing:
     def __init__(self, book, keys, turn):
-        self.book = book
-        self.speakers = dict([(key, speakers_of(book.table(key, turn))) for key in keys])
+        # Of each key, for each day the finding that speaks, and its value.
+        self.speakers = {}
+        self.sayings = {}
         # Of each key a dict of days: a day may be read more than once.
-        self.heard = dict([(key, {}) for key in keys])
+        self.heard = {}
+        for key in keys:
+            self.lay_out(book, key, turn)
+
+    def lay_out(self, book, key, turn):
+        speakers = []
+        sayings = []
+        for first, last, number in filled(book.table(key, turn), 0, LAST_DAY):
+            speakers.extend([number] * (last - first + 1))
+            sayings.extend([value_of(book, number)] * (last - first + 1))
+        self.speakers[key] = speakers
+        self.sayings[key] = sayings
+        self.heard[key] = {}
 
     def told(self, key, day):
         self.heard[key][day] = True
-        return value_of(self.book, self.speakers[key][day])
+        return self.sayings[key][day]
 
     def grounds(self):
         boxes = []
@@ -47,10 +60,3 @@ def question_meant(book, question):
     for key in asked.asked_keys():
         book.check_key(key)
     return asked
-
-
-def speakers_of(table):
-    speakers = []
-    for first, last, number in filled(table, 0, LAST_DAY):
-        speakers.extend([number] * (last - first + 1))
-    return speakers

@@ -23,10 +23,7 @@ class Index:
             raise NoName(owner)
         if not are_boxes(boxes):
             raise NoBox()
-        self.take(owner)
-        self.placed[owner] = list(boxes)
-        for key, first, last in boxes:
-            self.place_box(owner, key, first, last)
+        self.put_all(owner, boxes)
 
     def take(self, owner):
         if not self.has(owner):
@@ -55,6 +52,12 @@ class Index:
                 if start <= last and first <= end:
                     owners[owner] = True
         return (sorted(owners), len(looked))
+
+    def put_all(self, owner, boxes):
+        self.take(owner)
+        self.placed[owner] = list(boxes)
+        for key, first, last in boxes:
+            self.place_box(owner, key, first, last)
 
     def has(self, owner):
         # Other things may be of kinds that a dict cannot be asked for.
